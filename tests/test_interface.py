@@ -1,0 +1,89 @@
+"""The interface: where its functions and classes stand, and what they take."""
+
+import importlib
+import inspect
+import unittest
+
+FUNCTIONS = {
+    "words": {
+        "is_integer": "(value)",
+        "check_number": "(what, value, low, high)",
+        "read_number": "(text)",
+    },
+}
+
+CLASSES = {
+    "errors": {
+        "ParcelError": None,
+        "BadNumber": "(what, value)",
+        "BadOrder": "(place)",
+        "BadPair": "(place)",
+        "BadRow": "(value)",
+        "BadPlan": "(state, reason)",
+        "BadPaper": "(place, reason)",
+        "BadFoe": "(state, number, reason)",
+        "BadText": "(line)",
+        "BadDeed": "(place)",
+        "TooMany": "(limit)",
+        "Impossible": None,
+        "Unlike": None,
+        "NothingToUndo": None,
+    },
+    "widths": {"Widths": "(*widths)"},
+    "road": {"Road": "(widths, losses, *, in_a_row=False)"},
+}
+
+METHODS = {
+    ("widths", "Widths"): {
+        "__getitem__": None,
+        "__contains__": None,
+        "__len__": None,
+        "__iter__": None,
+        "__eq__": None,
+        "__le__": None,
+        "__or__": None,
+        "__and__": None,
+        "__sub__": None,
+        "below": "(self, x)",
+    },
+    ("road", "Road"): {"__eq__": None, "probes": "(self)"},
+}
+
+
+def part(module, name):
+    return getattr(importlib.import_module("widestparcels." + module), name)
+
+
+class Interface(unittest.TestCase):
+    def test_functions(self):
+        for module, functions in FUNCTIONS.items():
+            for name, signature in functions.items():
+                with self.subTest(module=module, name=name):
+                    function = part(module, name)
+                    self.assertTrue(inspect.isfunction(function))
+                    self.assertEqual(function.__module__, "widestparcels." + module)
+                    self.assertEqual(str(inspect.signature(function)), signature)
+
+    def test_classes(self):
+        for module, classes in CLASSES.items():
+            for name, signature in classes.items():
+                with self.subTest(module=module, name=name):
+                    kind = part(module, name)
+                    self.assertTrue(inspect.isclass(kind))
+                    self.assertEqual(kind.__module__, "widestparcels." + module)
+                    if signature is not None:
+                        self.assertEqual(str(inspect.signature(kind)), signature)
+
+    def test_methods_stand_in_the_class_itself(self):
+        for (module, name), methods in METHODS.items():
+            for method, signature in methods.items():
+                with self.subTest(name=name, method=method):
+                    own = vars(part(module, name))
+                    self.assertIn(method, own)
+                    self.assertTrue(inspect.isfunction(own[method]))
+                    if signature is not None:
+                        self.assertEqual(str(inspect.signature(own[method])), signature)
+
+
+if __name__ == "__main__":
+    unittest.main()

@@ -1,0 +1,1 @@
+"""Widestparcels: the greatest parcel that gets through when silence may be chance."""
