@@ -10,6 +10,19 @@ FUNCTIONS = {
         "check_number": "(what, value, low, high)",
         "read_number": "(text)",
     },
+    "rows": {
+        "is_row": "(value)",
+        "check_row": "(row)",
+        "answered_row": "(row, below, *, in_a_row=False)",
+        "silent_row": "(row, below)",
+        "sits_in": "(first, second)",
+    },
+    "best": {
+        "least_cost": "(log, prices)",
+        "best_probes": "(log, prices)",
+        "extras": "(log, prices)",
+        "worst_answer": "(log, prices, probe)",
+    },
 }
 
 CLASSES = {
@@ -31,6 +44,8 @@ CLASSES = {
     },
     "widths": {"Widths": "(*widths)"},
     "road": {"Road": "(widths, losses, *, in_a_row=False)"},
+    "log": {"Log": "(road, *pairs)"},
+    "costs": {"Prices": "(answer, silence)", "Costs": "(losses, prices, *, in_a_row=False)"},
 }
 
 METHODS = {
@@ -47,7 +62,28 @@ METHODS = {
         "below": "(self, x)",
     },
     ("road", "Road"): {"__eq__": None, "probes": "(self)"},
+    ("log", "Log"): {
+        "__getitem__": None,
+        "__len__": None,
+        "__iter__": None,
+        "__eq__": None,
+        "__le__": None,
+        "__add__": None,
+        "told": "(self, probe, answered)",
+        "need": "(self, width)",
+        "needs": "(self)",
+        "can_be": "(self)",
+        "is_impossible": "(self)",
+        "known": "(self)",
+        "row": "(self)",
+        "useful": "(self)",
+        "surely": "(self, probe)",
+    },
+    ("costs", "Prices"): {"__eq__": None, "__mul__": None, "__rmul__": None},
+    ("costs", "Costs"): {"__call__": "(self, row)", "best": "(self, row)", "extra": "(self, row, below)"},
 }
+
+STATIC_METHODS = {("costs", "Prices"): {"even": "()"}}
 
 
 def part(module, name):
@@ -83,6 +119,14 @@ class Interface(unittest.TestCase):
                     self.assertTrue(inspect.isfunction(own[method]))
                     if signature is not None:
                         self.assertEqual(str(inspect.signature(own[method])), signature)
+
+    def test_static_methods_stand_in_the_class_itself(self):
+        for (module, name), methods in STATIC_METHODS.items():
+            for method, signature in methods.items():
+                with self.subTest(name=name, method=method):
+                    kind = part(module, name)
+                    self.assertIsInstance(vars(kind)[method], staticmethod)
+                    self.assertEqual(str(inspect.signature(getattr(kind, method))), signature)
 
 
 if __name__ == "__main__":
