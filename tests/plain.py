@@ -104,3 +104,67 @@ def branches(needs, below, losses, in_a_row, answer, silence):
 
 def dearer(needs, below, losses, in_a_row, answer, silence):
     return max(branches(needs, below, losses, in_a_row, answer, silence))
+
+
+def yes_row(row, below, in_a_row):
+    return row_from(after_yes(needs_in(row), below, in_a_row), len(row) - 1)
+
+
+def no_row(row, below):
+    return row_from(after_no(needs_in(row), below, len(row) - 1), len(row) - 1)
+
+
+def in_order(start, branches_of):
+    """The start and all that comes of it by branches_of, in the order in which it is reached, each once."""
+    found = [start]
+    for row in found:
+        found.extend(dict.fromkeys(branch for branch in branches_of(row) if branch not in found))
+    return found
+
+
+def reached(start, in_a_row, number_at):
+    """The rows of sum 2 or more that are reached if number_at tells the number below, in their order."""
+
+    def branches_of(row):
+        if sum(row) == 1:
+            return []
+        return [yes_row(row, number_at(row), in_a_row), no_row(row, number_at(row))]
+
+    return [row for row in in_order(start, branches_of) if sum(row) > 1]
+
+
+def plain_courses(log, plan):
+    """All courses of the plan in their order, told by the logs themselves."""
+    can_be = possible(log)
+    if len(can_be) == 1:
+        return [[]]
+    probe = can_be[plan[row_of(log)]]
+    found = []
+    for answered in (True, False):
+        found += [[(probe, answered)] + course for course in plain_courses(log.told(probe, answered), plan)]
+    return found
+
+
+def paid(course, answer, silence):
+    return sum(answer if answered else silence for _, answered in course)
+
+
+def some_plan(chance, start, in_a_row):
+    """A plan with numbers below by chance, which has just the rows that it reaches, in their order."""
+    numbers = {}
+
+    def number_at(row):
+        if row not in numbers:
+            numbers[row] = chance.randint(1, sum(row) - 1)
+        return numbers[row]
+
+    return {row: number_at(row) for row in reached(start, in_a_row, number_at)}
+
+
+def some_logs():
+    """Logs of all kinds of roads, with and without pairs; none is impossible."""
+    for losses, in_a_row in KINDS:
+        for many in (1, 2, 3, 5):
+            yield wide_log(many, losses, in_a_row)
+        for pairs in ([(3, True)], [(5, False)], [(5, False), (2, True), (9, False)], [(3, True), (5, False)]):
+            yield make_log((1, 2, 3, 5, 9), losses, in_a_row, *pairs)

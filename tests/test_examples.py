@@ -4,7 +4,11 @@ import unittest
 
 from helper import ParcelCase
 from widestparcels.costs import Costs, Prices
+from widestparcels.courses import courses
+from widestparcels.errors import BadPlan
 from widestparcels.log import Log
+from widestparcels.papers import check_at_least
+from widestparcels.plans import check_plan, told_plan
 from widestparcels.road import Road
 from widestparcels.rows import answered_row, silent_row
 from widestparcels.widths import Widths
@@ -27,6 +31,21 @@ class Examples(ParcelCase):
     def test_rows(self):
         found = [answered_row((2, 1), 1), silent_row((2, 1), 1), silent_row((3, 0), 2)]
         self.assert_same(found, [(1, 1), (1, 1), (2, 1)])
+
+    def test_told_plan_and_courses(self):
+        log = Log(Road(Widths(1, 2, 3), 0))
+        plan = told_plan(log, Prices.even())
+        self.assertEqual(list(plan), [(3,), (2,)])
+        wanted = [{(3,): 1, (2,): 1}, [[(2, True), (3, True)], [(2, True), (3, False)], [(2, False)]]]
+        self.assert_same([plan, list(courses(log, plan))], wanted)
+
+    def test_plan_that_lacks_a_row(self):
+        log = Log(Road(Widths(1, 2, 3), 0))
+        self.assert_told(BadPlan, {"state": (3,), "reason": "lacks"}, check_plan, log, Prices.even(), {})
+
+    def test_certificate(self):
+        pairs = [((3, 0), 3), ((2, 0), 2), ((2, 1), 2), ((1, 1), 1)]
+        self.assertIs(check_at_least(Log(Road(Widths(1, 2, 3), 1)), Prices.even(), 3, pairs), True)
 
 
 if __name__ == "__main__":

@@ -23,6 +23,20 @@ FUNCTIONS = {
         "extras": "(log, prices)",
         "worst_answer": "(log, prices, probe)",
     },
+    "plans": {"check_plan": "(log, prices, plan)", "told_plan": "(log, prices)"},
+    "courses": {
+        "count_courses": "(log, plan)",
+        "courses": "(log, plan)",
+        "dearest": "(log, prices, plan)",
+        "cheapest": "(log, prices, plan)",
+        "play": "(log, plan, ask)",
+    },
+    "papers": {"check_at_least": "(log, prices, v, pairs)", "paper_at_least": "(log, prices)"},
+    "foe": {
+        "check_foe": "(log, prices, foe)",
+        "told_foe": "(log, prices)",
+        "play_foe": "(log, prices, plan, foe)",
+    },
 }
 
 CLASSES = {

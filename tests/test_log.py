@@ -172,6 +172,11 @@ class ComparingLogs(LogCase):
             self.assert_told(Unlike, {}, lambda: Log(ROAD) <= Log(road))
             self.assert_told(Unlike, {}, lambda: Log(road) <= Log(ROAD, (20, True)))
 
+    def test_goes_on_of_other_kinds(self):
+        for other in (None, 1, (), ROAD):
+            with self.assertRaises(TypeError):
+                Log(ROAD) <= other
+
     def test_roads_that_are_equal_but_not_the_same(self):
         self.assertIs(Log(ROAD) <= Log(Road(Widths(1, 20, 30), 1), (20, True)), True)
 
@@ -215,6 +220,11 @@ class AddingLogs(LogCase):
         for road in unlike_roads():
             self.assert_told(Unlike, {}, lambda: Log(ROAD) + Log(road))
             self.assert_told(Unlike, {}, lambda: Log(road) + Log(ROAD))
+
+    def test_other_kinds(self):
+        for other in (None, 1, ((20, True),), ROAD):
+            with self.assertRaises(TypeError):
+                Log(ROAD) + other
 
     def test_too_long(self):
         hundred = Log(ROAD, *HUNDRED)
