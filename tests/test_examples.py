@@ -3,9 +3,11 @@
 import unittest
 
 from helper import ParcelCase
+from widestparcels.apart import apart
 from widestparcels.costs import Costs, Prices
 from widestparcels.courses import courses
 from widestparcels.errors import BadPlan
+from widestparcels.houses import HouseLog, least_probes, told_probe
 from widestparcels.log import Log
 from widestparcels.papers import check_at_least
 from widestparcels.plans import check_plan, told_plan
@@ -31,6 +33,16 @@ class Examples(ParcelCase):
     def test_rows(self):
         found = [answered_row((2, 1), 1), silent_row((2, 1), 1), silent_row((3, 0), 2)]
         self.assert_same(found, [(1, 1), (1, 1), (2, 1)])
+
+    def test_apart(self):
+        prices = Prices(2, 1)
+        found = [apart(1, prices), apart(2, prices), apart(3, prices), apart(4, prices)]
+        self.assert_same(found, [1, 2, 3, 5])
+
+    def test_house_log(self):
+        log = HouseLog(Widths(10, 20, 30), 2, (30, 20))
+        found = [log.can_be(), log.houses_left(), least_probes(log), told_probe(log)]
+        self.assert_same(found, [[10, 20], 1, 1, 20])
 
     def test_told_plan_and_courses(self):
         log = Log(Road(Widths(1, 2, 3), 0))

@@ -37,6 +37,23 @@ FUNCTIONS = {
         "told_foe": "(log, prices)",
         "play_foe": "(log, prices, plan, foe)",
     },
+    "apart": {
+        "apart": "(v, prices)",
+        "most_apart": "(road, prices, v)",
+        "to_strike": "(road, prices, v)",
+    },
+    "houses": {"least_probes": "(houselog)", "told_probe": "(houselog)"},
+    "stand": {
+        "through": "(widths, stand, probe)",
+        "true_width": "(widths, stand)",
+        "find": "(widths, houses, stand)",
+    },
+    "houseplans": {
+        "check_house_plan": "(houselog, plan)",
+        "told_house_plan": "(houselog)",
+        "check_house_paper": "(houselog, v, pairs)",
+        "house_paper": "(houselog)",
+    },
 }
 
 CLASSES = {
@@ -60,6 +77,7 @@ CLASSES = {
     "road": {"Road": "(widths, losses, *, in_a_row=False)"},
     "log": {"Log": "(road, *pairs)"},
     "costs": {"Prices": "(answer, silence)", "Costs": "(losses, prices, *, in_a_row=False)"},
+    "houses": {"HouseLog": "(widths, houses, *pairs)"},
 }
 
 METHODS = {
@@ -95,6 +113,17 @@ METHODS = {
     },
     ("costs", "Prices"): {"__eq__": None, "__mul__": None, "__rmul__": None},
     ("costs", "Costs"): {"__call__": "(self, row)", "best": "(self, row)", "extra": "(self, row, below)"},
+    ("houses", "HouseLog"): {
+        "__getitem__": None,
+        "__len__": None,
+        "__iter__": None,
+        "__eq__": None,
+        "told": "(self, probe, answer)",
+        "can_be": "(self)",
+        "houses_left": "(self)",
+        "known": "(self)",
+        "useful": "(self)",
+    },
 }
 
 STATIC_METHODS = {("costs", "Prices"): {"even": "()"}}
