@@ -1,9 +1,10 @@
-"""The examples of the document, as far as their modules have landed."""
+"""The examples of the document, all of them."""
 
 import unittest
 
 from helper import ParcelCase
 from widestparcels.apart import apart
+from widestparcels.console import console
 from widestparcels.costs import Costs, Prices
 from widestparcels.courses import courses
 from widestparcels.errors import BadPlan
@@ -58,6 +59,11 @@ class Examples(ParcelCase):
     def test_certificate(self):
         pairs = [((3, 0), 3), ((2, 0), 2), ((2, 1), 2), ((1, 1), 1)]
         self.assertIs(check_at_least(Log(Road(Widths(1, 2, 3), 1)), Prices.even(), 3, pairs), True)
+
+    def test_console(self):
+        lines = ["best", "tell 20 yes", "table", "tell 30 no", "best"]
+        found = console(Road(Widths(10, 20, 30), 0), Prices.even(), lines)
+        self.assert_same(found, ["20 30", "done", "    30    0", "done", "known 20"])
 
 
 if __name__ == "__main__":

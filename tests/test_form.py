@@ -1,11 +1,24 @@
 """The form of the files of the package, as far as a short test can see it."""
 
 import ast
+import builtins
 import pathlib
+import re
 import unittest
 
 PACKAGE = pathlib.Path(__file__).resolve().parent.parent / "widestparcels"
 LIBRARY = ("__future__", "collections", "heapq", "itertools", "math")
+# L8, as far as the package needs it; property and staticmethod are decorators of L5.
+BUILTINS = set(
+    "len range enumerate zip min max sum abs sorted reversed int str bool list tuple dict set isinstance ord repr "
+    "any all divmod ValueError TypeError KeyError IndexError LookupError ZeroDivisionError NotImplemented "
+    "iter property staticmethod".split()
+)
+# L17, outside of comments and docstrings.
+BARRED = (
+    "type", "typing", "enum", "Enum", "Flag", "Generic", "Protocol", "ABC", "namedtuple", "NamedTuple", "TypedDict",
+    "register", "mro", "elements", "input", "law", "eval", "exec", "globals", "locals", "vars", "super", "id",
+)
 
 
 class Form(unittest.TestCase):
@@ -39,6 +52,44 @@ class Form(unittest.TestCase):
                     if isinstance(node, ast.ImportFrom):
                         self.assertEqual(node.level, 0)
                         self.assertTrue(node.module in LIBRARY or node.module.startswith("widestparcels."))
+
+    def test_builtins(self):
+        for path in PACKAGE.glob("*.py"):
+            for node in ast.walk(ast.parse(path.read_text())):
+                if isinstance(node, ast.Name) and hasattr(builtins, node.id):
+                    with self.subTest(path.name, line=node.lineno):
+                        self.assertIsInstance(node.ctx, ast.Load)
+                        self.assertIn(node.id, BUILTINS)
+                if isinstance(node, ast.arg):
+                    with self.subTest(path.name, line=node.lineno):
+                        self.assertFalse(hasattr(builtins, node.arg))
+
+    def test_barred_words(self):
+        for path in PACKAGE.glob("*.py"):
+            # To parse and unparse drops the comments; what is left of docstrings is plain words.
+            text = ast.unparse(ast.parse(path.read_text()))
+            for word in BARRED:
+                with self.subTest(path.name, word=word):
+                    self.assertIsNone(re.search(rf"\b{word}\b", text))
+
+    def test_kinds_of_expressions(self):
+        # any, all, sum and sorted take lists, because classes have __eq__ and operators.
+        barred = (ast.GeneratorExp, ast.SetComp, ast.Div, ast.Global, ast.AsyncFunctionDef, ast.Await)
+        for path in PACKAGE.glob("*.py"):
+            for node in ast.walk(ast.parse(path.read_text())):
+                with self.subTest(path.name, line=getattr(node, "lineno", None)):
+                    self.assertNotIsInstance(node, barred)
+                    if isinstance(node, ast.Constant):
+                        self.assertNotIsInstance(node.value, (float, complex, bytes))
+                        self.assertNotIn("%", str(node.value))
+
+    def test_only_own_errors_are_caught(self):
+        for path in PACKAGE.glob("*.py"):
+            for node in ast.walk(ast.parse(path.read_text())):
+                if isinstance(node, ast.ExceptHandler):
+                    with self.subTest(path.name, line=node.lineno):
+                        self.assertIsInstance(node.type, ast.Name)
+                        self.assertFalse(hasattr(builtins, node.type.id))
 
 
 if __name__ == "__main__":

@@ -2,7 +2,20 @@
 
 import importlib
 import inspect
+import pathlib
+import subprocess
+import sys
 import unittest
+
+from widestparcels import errors
+from widestparcels.costs import Costs, Prices
+from widestparcels.houses import HouseLog
+from widestparcels.live import Search
+from widestparcels.log import Log
+from widestparcels.road import Road
+from widestparcels.widths import Widths
+
+PROJECT = pathlib.Path(__file__).resolve().parent.parent
 
 FUNCTIONS = {
     "words": {
@@ -54,6 +67,14 @@ FUNCTIONS = {
         "check_house_paper": "(houselog, v, pairs)",
         "house_paper": "(houselog)",
     },
+    "back": {"fillings": "(road, pairs)", "possible_widths": "(road, pairs)"},
+    "texts": {
+        "write_log": "(log)",
+        "read_log": "(text)",
+        "write_plan": "(plan)",
+        "read_plan": "(text)",
+    },
+    "console": {"console": "(road, prices, lines)"},
 }
 
 CLASSES = {
@@ -78,6 +99,7 @@ CLASSES = {
     "log": {"Log": "(road, *pairs)"},
     "costs": {"Prices": "(answer, silence)", "Costs": "(losses, prices, *, in_a_row=False)"},
     "houses": {"HouseLog": "(widths, houses, *pairs)"},
+    "live": {"Search": "(road, prices)"},
 }
 
 METHODS = {
@@ -124,9 +146,44 @@ METHODS = {
         "known": "(self)",
         "useful": "(self)",
     },
+    ("live", "Search"): {
+        "load": "(self, log)",
+        "tell": "(self, probe, answered)",
+        "undo": "(self, count=1)",
+        "tell_all": "(self, *pairs)",
+        "spent": "(self)",
+        "left": "(self)",
+        "advice": "(self)",
+    },
 }
 
 STATIC_METHODS = {("costs", "Prices"): {"even": "()"}}
+
+PROPERTIES = {("live", "Search"): ("log",)}
+
+WIDTHS = Widths(10, 20, 30)
+ROAD = Road(WIDTHS, 1)
+
+# An object of each class with the attributes that are listed for it.
+ATTRIBUTES = (
+    (WIDTHS, ("numbers",)),
+    (ROAD, ("widths", "losses", "in_a_row")),
+    (Log(ROAD), ("road", "pairs")),
+    (Prices(1, 2), ("answer", "silence")),
+    (Costs(1, Prices(1, 2)), ("losses", "prices", "in_a_row")),
+    (HouseLog(WIDTHS, 2), ("widths", "houses", "pairs")),
+    (Search(ROAD, Prices(1, 2)), ("road", "prices", "depth")),
+    (errors.BadNumber("cost", 7), ("what", "value")),
+    (errors.BadOrder(7), ("place",)),
+    (errors.BadPair(7), ("place",)),
+    (errors.BadRow(7), ("value",)),
+    (errors.BadPlan((7,), "lacks"), ("state", "reason")),
+    (errors.BadPaper(7, "row"), ("place", "reason")),
+    (errors.BadFoe((7,), 1, "lacks"), ("state", "number", "reason")),
+    (errors.BadText(7), ("line",)),
+    (errors.BadDeed(7), ("place",)),
+    (errors.TooMany(7), ("limit",)),
+)
 
 
 def part(module, name):
@@ -170,6 +227,26 @@ class Interface(unittest.TestCase):
                     kind = part(module, name)
                     self.assertIsInstance(vars(kind)[method], staticmethod)
                     self.assertEqual(str(inspect.signature(getattr(kind, method))), signature)
+
+    def test_properties_with_setters_stand_in_the_class_itself(self):
+        for (module, name), properties in PROPERTIES.items():
+            for attribute in properties:
+                with self.subTest(name=name, attribute=attribute):
+                    own = vars(part(module, name))[attribute]
+                    self.assertIsInstance(own, property)
+                    self.assertIsNotNone(own.fset)
+
+    def test_attributes_are_set_when_the_object_is_created(self):
+        for value, attributes in ATTRIBUTES:
+            for attribute in attributes:
+                with self.subTest(kind=type(value).__name__, attribute=attribute):
+                    self.assertIn(attribute, vars(value))
+
+    def test_each_module_can_be_imported_alone(self):
+        for module in {*FUNCTIONS, *CLASSES}:
+            with self.subTest(module=module):
+                command = f"import widestparcels.{module}"
+                subprocess.run([sys.executable, "-c", command], cwd=PROJECT, check=True)
 
 
 if __name__ == "__main__":
